@@ -285,6 +285,22 @@ func TestTo32(t *testing.T) {
 	}
 }
 
+// P2.1: floats too great for 32 bits, from the middle of the greatest finite one and 2^128 on.
+func TestTo32TooGreat(t *testing.T) {
+	middle := 340282356779733661637539395458142568448.0
+	great := []float64{middle, above(middle), above(above(middle)), 0x1p128, below(0x1p128), above(0x1p128), 0x1p129, 0x1p200, 1e300, math.MaxFloat64, inf()}
+	for _, x := range great {
+		if b, o := To32(x), To32(-x); b != 0x7f800000 || o != 0xff800000 {
+			t.Errorf("To32(%v) is %08x, of the opposite %08x, want the infinities", x, b, o)
+		}
+	}
+	for _, x := range []float64{below(middle), below(below(middle)), math.MaxFloat32, above(math.MaxFloat32)} {
+		if b, o := To32(x), To32(-x); b != 0x7f7fffff || o != 0xff7fffff {
+			t.Errorf("To32(%v) is %08x, of the opposite %08x, want the greatest finite ones", x, b, o)
+		}
+	}
+}
+
 // P2.1
 func TestFrom32(t *testing.T) {
 	rows := map[uint32]uint64{
